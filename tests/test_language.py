@@ -1,0 +1,308 @@
+"""That the package's files keep to LANGUAGE.md, as far as a test can see it."""
+
+import ast
+import builtins
+import pathlib
+import re
+import unittest
+
+PACKAGE = "evenquay"
+FOLDER = pathlib.Path(__file__).resolve().parent.parent / PACKAGE
+
+PYTHON_OWN = {name for name in vars(builtins) if not name.startswith("_")}
+
+# L8: the names of Python's own that may be used; print is for __main__.py alone.
+OWN_NAMES = set(
+    "len range enumerate zip min max sum abs sorted reversed int str bool list tuple dict set frozenset isinstance "
+    "ord repr any all divmod Exception ValueError TypeError KeyError IndexError LookupError ZeroDivisionError "
+    "ArithmeticError OverflowError RuntimeError NotImplementedError AttributeError StopIteration".split()
+)
+
+# L25: the methods of Python's own values that may be called.
+OWN_METHODS = set(
+    "append clear copy count endswith extend find get index insert isalnum isalpha isdigit islower isspace isupper "
+    "items join keys ljust lower lstrip partition pop remove replace reverse rfind rjust rpartition rsplit rstrip "
+    "setdefault split splitlines startswith strip update upper values zfill bit_length".split()
+)
+
+# L17: words that stand nowhere, and parts of words that stand nowhere either.
+BARRED_WORDS = (
+    r"\b(type|typing|typing_extensions|enum|Enum|IntEnum|StrEnum|Flag|IntFlag|Generic|Protocol|ABC|ABCMeta|"
+    r"namedtuple|NamedTuple|TypedDict|TYPE_CHECKING|abstractmethod)\b|dataclass|overload|contextmanager"
+)
+BARRED_NAMES = set("register mro elements open input version_info with_traceback add_note format format_map".split())
+BARRED_FILES = set("test tests testing site conftest sitecustomize usercustomize".split())
+
+# L6 and L7: all forms that may stand in a file.
+FORMS = (
+    ast.Module, ast.ImportFrom, ast.Import, ast.alias, ast.FunctionDef, ast.ClassDef, ast.arguments, ast.arg,
+    ast.Lambda, ast.Assign, ast.AugAssign, ast.If, ast.While, ast.For, ast.Return, ast.Break, ast.Continue, ast.Pass,
+    ast.Raise, ast.Try, ast.ExceptHandler, ast.Expr, ast.Constant, ast.List, ast.Tuple, ast.Dict, ast.Set,
+    ast.BinOp, ast.UnaryOp, ast.BoolOp, ast.Compare, ast.IfExp, ast.Call, ast.keyword, ast.Attribute, ast.Subscript,
+    ast.Slice, ast.ListComp, ast.comprehension, ast.JoinedStr, ast.FormattedValue, ast.Name, ast.expr_context,
+    ast.operator, ast.unaryop, ast.boolop, ast.cmpop,
+)
+BARRED_OPERATORS = (ast.Div, ast.MatMult)
+TWO_UNDERSCORES = set("__init__ __eq__ __repr__ __str__ __len__ __all__ __version__ __name__".split())
+
+
+def sign_faults(source):
+    """L10 and L14: sizes and signs."""
+    faults = []
+    lines = source.split("\n")
+    if len(source.splitlines()) > 400:
+        faults.append("L10")
+    if any(len(line) > 120 for line in lines) or "\t" in source:
+        faults.append("L10")
+    if any(sign != "\n" and not " " <= sign <= "~" for sign in source):
+        faults.append("L14")
+    if re.search(BARRED_WORDS, source):
+        faults.append("L17")
+    return faults
+
+
+def function_faults(tree):
+    """L4, L10 and L15: functions of 40 lines, plain parameters, none called like a name of Python's own."""
+    faults = []
+    for node in ast.walk(tree):
+        if not isinstance(node, (ast.FunctionDef, ast.Lambda)):
+            continue
+        if node.end_lineno - node.lineno + 1 > 40:
+            faults.append("L10")
+        given = node.args
+        if given.vararg or given.kwarg or given.kwonlyargs or given.posonlyargs:
+            faults.append("L4")
+        if isinstance(node, ast.FunctionDef) and node.decorator_list:
+            faults.append("L4")
+        if any(one.arg in PYTHON_OWN for one in given.args):
+            faults.append("L15")
+    return faults
+
+
+def import_faults(tree, name):
+    """L2 and L16: from .. import .. alone, at the top, from the package's own files, by full names."""
+    faults = []
+    for node in ast.walk(tree):
+        if isinstance(node, ast.Import):
+            if name != "__main__" or [alias.name for alias in node.names] != ["sys"]:
+                faults.append("L2")
+        if isinstance(node, ast.ImportFrom):
+            future = node.module == "__future__" and [alias.name for alias in node.names] == ["annotations"]
+            own = node.level == 0 and (node.module or "").startswith(PACKAGE + ".")
+            starred = any(alias.name == "*" for alias in node.names)
+            if node not in tree.body or starred or not (own or future) or (node.module or "").endswith("__main__"):
+                faults.append("L2")
+    return faults
+
+
+def form_faults(tree):
+    """L6, L7 and L20: the forms of statements and expressions."""
+    faults = []
+    for node in ast.walk(tree):
+        if not isinstance(node, FORMS) or isinstance(node, BARRED_OPERATORS):
+            faults.append("L6")
+        if isinstance(node, (ast.For, ast.While)) and node.orelse or isinstance(node, ast.Try) and node.finalbody:
+            faults.append("L6")
+        if isinstance(node, ast.Assign) and (len(node.targets) > 1 or isinstance(node.targets[0], ast.Tuple)):
+            faults.append("L6")
+        if isinstance(node, ast.Expr) and not isinstance(node.value, ast.Call) and node is not tree.body[0]:
+            faults.append("L6")
+        if isinstance(node, ast.Constant) and isinstance(node.value, (float, complex, bytes)):
+            faults.append("L7")
+        if isinstance(node, ast.ListComp) and (len(node.generators) > 1 or len(node.generators[0].ifs) > 1):
+            faults.append("L7")
+        if isinstance(node, ast.Compare) and any(isinstance(sign, (ast.Is, ast.IsNot)) for sign in node.ops):
+            if not all(isinstance(side, ast.Constant) for side in node.comparators):
+                faults.append("L20")
+    return faults
+
+
+def name_faults(tree, name):
+    """L8, L12, L15, L17 and L25: names, and the methods of Python's own."""
+    faults = []
+    methods = [node.name for node in ast.walk(tree) if isinstance(node, ast.FunctionDef)]
+    for node in ast.walk(tree):
+        word = None
+        if isinstance(node, ast.Name):
+            word = node.id
+            python_own = word in PYTHON_OWN
+            if python_own and isinstance(node.ctx, ast.Store):
+                faults.append("L15")
+            elif python_own and word not in OWN_NAMES and not (word == "print" and name == "__main__"):
+                faults.append("L8")
+        elif isinstance(node, (ast.FunctionDef, ast.ClassDef)):
+            word = node.name
+        elif isinstance(node, ast.Attribute):
+            word = node.attr
+        elif isinstance(node, ast.arg):
+            word = node.arg
+        if word is not None and word.startswith("_") and word not in TWO_UNDERSCORES:
+            faults.append("L12")
+        if word in BARRED_NAMES:
+            faults.append("L17")
+        if isinstance(node, ast.Call) and isinstance(node.func, ast.Attribute):
+            if node.func.attr not in OWN_METHODS and node.func.attr not in methods:
+                faults.append("L25")
+    return faults
+
+
+def top_names(tree):
+    """The names that a file binds by itself, imports left out, each as often as it is bound."""
+    names = []
+    for node in tree.body:
+        if isinstance(node, (ast.FunctionDef, ast.ClassDef)):
+            names.append(node.name)
+        if isinstance(node, ast.Assign):
+            names.extend(target.id for target in node.targets if isinstance(target, ast.Name))
+    return names
+
+
+def top_faults(tree):
+    """L3 and L15: what may stand at a file's top, each name once."""
+    faults = []
+    for place, node in enumerate(tree.body):
+        docstring = place == 0 and isinstance(node, ast.Expr) and isinstance(node.value, ast.Constant)
+        guard = place == len(tree.body) - 1 and isinstance(node, ast.If)
+        plain = isinstance(node, (ast.ImportFrom, ast.Import, ast.FunctionDef, ast.ClassDef, ast.Assign))
+        if not (docstring or guard or plain):
+            faults.append("L3")
+    names = top_names(tree)
+    if len(names) != len(set(names)):
+        faults.append("L15")
+    return faults
+
+
+def faults_of(source, name="some"):
+    tree = ast.parse(source)
+    told = sign_faults(source) + function_faults(tree) + import_faults(tree, name) + form_faults(tree)
+    return sorted(set(told + name_faults(tree, name) + top_faults(tree)))
+
+
+def draws(tree):
+    """A dict from each file of the package that is drawn from to the names drawn."""
+    drawn = {}
+    for node in ast.walk(tree):
+        if isinstance(node, ast.ImportFrom) and node.module != "__future__":
+            file = node.module.removeprefix(PACKAGE + ".")
+            drawn.setdefault(file, []).extend(alias.name for alias in node.names)
+    return drawn
+
+
+def in_a_ring(drawn):
+    """The files that draw from themselves, in whatever many steps."""
+    rings = []
+    for file in drawn:
+        seen = set()
+        ahead = list(drawn[file])
+        while ahead:
+            step = ahead.pop()
+            if step not in seen:
+                seen.add(step)
+                ahead.extend(drawn.get(step, []))
+        if file in seen:
+            rings.append(file)
+    return rings
+
+
+class Package(unittest.TestCase):
+    def setUp(self):
+        self.sources = {path.stem: path.read_bytes().decode("utf-8") for path in FOLDER.glob("*.py")}
+        self.trees = {name: ast.parse(source) for name, source in self.sources.items()}
+
+    def test_the_files_of_the_document_are_there(self):
+        for name in ("__init__", "errors", "fleets", "plans", "dealing"):
+            self.assertIn(name, self.sources)
+
+    def test_nothing_else_lies_in_the_folder(self):
+        others = [path.name for path in FOLDER.iterdir() if path.suffix != ".py" and path.name != "__pycache__"]
+        self.assertEqual(others, [])
+
+    def test_file_names(self):
+        for name in self.sources:
+            self.assertRegex(name, r"^([a-z][a-z0-9_]*|__init__|__main__)$")
+            self.assertNotIn(name, BARRED_FILES)
+            self.assertFalse(name.startswith("test_") or name in PYTHON_OWN)
+
+    def test_no_file_has_a_fault(self):
+        for name, source in self.sources.items():
+            self.assertEqual(faults_of(source, name), [], name)
+
+    def test_names_are_drawn_from_the_file_that_defines_them(self):
+        for name, tree in self.trees.items():
+            for file, drawn in draws(tree).items():
+                self.assertIn(file, self.trees, name)
+                for one in drawn:
+                    self.assertIn(one, top_names(self.trees[file]), name)
+
+    def test_no_two_files_draw_from_one_another(self):
+        self.assertEqual(in_a_ring({name: list(draws(tree)) for name, tree in self.trees.items()}), [])
+
+    def test_no_local_is_called_like_an_import(self):
+        for name, tree in self.trees.items():
+            drawn = [one for names in draws(tree).values() for one in names]
+            words = [node for node in ast.walk(tree) if isinstance(node, ast.Name)]
+            bound = [node.id for node in words if isinstance(node.ctx, ast.Store)]
+            bound += [node.arg for node in ast.walk(tree) if isinstance(node, ast.arg)]
+            self.assertEqual(sorted(set(drawn) & set(bound)), [], name)
+
+    def test_the_top_binds_no_name_of_a_file(self):
+        self.assertEqual(top_names(self.trees["__init__"]), [])
+        self.assertEqual(draws(self.trees["__init__"]), {})
+
+
+class TheTestItself(unittest.TestCase):
+    """A checker that finds nothing would let everything pass."""
+
+    def assert_fault(self, rule, source):
+        self.assertIn(rule, faults_of(source), source)
+
+    def test_a_plain_file_has_no_fault(self):
+        self.assertEqual(faults_of('"""A file."""\n\nONE = 1\n\n\ndef twice(x):\n    return [x, len([x])]\n'), [])
+
+    def test_sizes(self):
+        self.assertEqual(faults_of("def f():\n" + "    pass\n" * 39), [])
+        self.assert_fault("L10", "def f():\n" + "    pass\n" * 40)
+        self.assertEqual(faults_of("# " + "a" * 118 + "\n" * 400), [])
+        self.assert_fault("L10", "# " + "a" * 119 + "\n")
+        self.assert_fault("L10", "\n" * 401)
+        self.assert_fault("L10", "def f():\n\tpass\n")
+
+    def test_signs(self):
+        self.assert_fault("L14", "# \u00e9\n")
+        self.assert_fault("L14", "ONE = 1\r\n")
+
+    def test_imports(self):
+        self.assertEqual(faults_of("from evenquay.errors import NoShip\n"), [])
+        for row in ("import sys", "import evenquay.errors", "from evenquay.errors import *",
+                    "from .errors import NoShip", "from evenquay import errors", "from random import random",
+                    "from evenquay.__main__ import run",
+                    "def f():\n    from evenquay.errors import NoShip"):
+            self.assert_fault("L2", row + "\n")
+
+    def test_rings(self):
+        self.assertEqual(in_a_ring({"a": ["b"], "b": ["c"], "c": []}), [])
+        self.assertEqual(in_a_ring({"a": ["b"], "b": ["c"], "c": ["a"], "d": ["a"]}), ["a", "b", "c"])
+
+    def test_forms(self):
+        for body in ("a, b = x", "a = b = x", "return x / 2", "return {y for y in x}", "yield x", "assert x", "del x",
+                     "while x:\n        pass\n    else:\n        pass", "return sum(y for y in x)", "x\n    return x"):
+            self.assert_fault("L6", f"def f(x):\n    {body}\n")
+        self.assert_fault("L7", "ONE = 1.5\n")
+        self.assert_fault("L7", "def f(x):\n    return [z for y in x for z in y]\n")
+        self.assert_fault("L20", "def f(x, y):\n    return x is y\n")
+        self.assert_fault("L4", "def f(*x):\n    return x\n")
+
+    def test_names(self):
+        self.assert_fault("L8", "def f(x):\n    return map(str, x)\n")
+        self.assert_fault("L12", "def f(x):\n    return [1 for _ in x]\n")
+        self.assert_fault("L15", "def f(id):\n    return id\n")
+        self.assert_fault("L15", "def f(x):\n    min = x\n    return min\n")
+        self.assert_fault("L15", "ONE = 1\nONE = 2\n")
+        self.assert_fault("L17", "# a type\n")
+        self.assert_fault("L17", "def f(x):\n    x.format = 1\n")
+        self.assert_fault("L25", "def f(x):\n    x.sort()\n")
+        self.assert_fault("L3", "print(1)\n")
+
+
+if __name__ == "__main__":
+    unittest.main()
