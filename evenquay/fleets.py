@@ -1,5 +1,7 @@
 """Ships, fleets, and the stretches into which a fleet's bounds part the hours."""
 
+from evenquay.errors import NoFleet
+
 # Where the parts of a ship (begin, end, need, most) stand.
 BEGIN = 0
 END = 1
@@ -30,6 +32,11 @@ def is_fleet(thing):
     return isinstance(thing, list) and all([is_ship(ship) for ship in thing])
 
 
+def must_be_fleet(thing):
+    if not is_fleet(thing):
+        raise NoFleet("no fleet: a list of ships (begin, end, need, most) is wanted")
+
+
 def bounds(fleet):
     begins = [ship[BEGIN] for ship in fleet]
     ends = [ship[END] for ship in fleet]
@@ -49,3 +56,16 @@ def room(ship, stretch):
     if ship[BEGIN] <= stretch[FROM] and stretch[TO] <= ship[END]:
         return ship[MOST] * length(stretch)
     return 0
+
+
+def rooms_of(fleet):
+    spans = stretches(fleet)
+    return [[room(ship, span) for span in spans] for ship in fleet]
+
+
+def lengths_of(fleet):
+    return [length(span) for span in stretches(fleet)]
+
+
+def needs_of(fleet):
+    return [ship[NEED] for ship in fleet]

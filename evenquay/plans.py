@@ -1,6 +1,7 @@
 """Plans of a fleet: what is one, its crane hours above a number, and its loads, counted."""
 
-from evenquay.fleets import NEED, is_whole, length, room, stretches
+from evenquay.errors import NoPlan
+from evenquay.fleets import NEED, is_whole, length, must_be_fleet, room, stretches
 
 
 def is_plan(fleet, thing):
@@ -19,6 +20,13 @@ def is_share(ship, spans, thing):
     if not all([0 <= many <= room(ship, span) for span, many in zip(spans, thing)]):
         return False
     return sum(thing) == ship[NEED]
+
+
+def must_be_plan(fleet, thing):
+    # The fleet ahead of the plan: of what is no fleet there are no plans to speak of.
+    must_be_fleet(fleet)
+    if not is_plan(fleet, thing):
+        raise NoPlan("no plan of the fleet: for each ship a list with its crane hours in each stretch is wanted")
 
 
 def total(plan, place):

@@ -1,4 +1,7 @@
-"""Fleets, plans and wrong things for the tests, and a slow reckoning by single hours to hold the program against."""
+"""Fleets, plans and wrong things for the tests, and a slow reckoning by single hours to hold the program against.
+
+Nothing here draws from the program.
+"""
 
 import contextlib
 import itertools
@@ -97,6 +100,160 @@ def slow_loads(fleet, plan):
     for (_, hour), cranes in slow_deal(fleet, plan).items():
         loads[hour] += cranes
     return loads
+
+
+def slow_hours(fleet):
+    """How many hours each stretch has."""
+    return [len(range(*stretch)) for stretch in slow_stretches(fleet)]
+
+
+def slow_totals(fleet, all_needs=True):
+    """The crane hours by stretches of every plan of a small fleet, or of every list that may fall short of needs."""
+    told = {(0,) * len(slow_stretches(fleet))}
+    for ship in fleet:
+        reach = [range(slow_room(ship, stretch) + 1) for stretch in slow_stretches(fleet)]
+        rows = [row for row in itertools.product(*reach) if sum(row) == ship[2] or sum(row) < ship[2] and not all_needs]
+        told = {tuple(map(sum, zip(ahead, row))) for ahead in told for row in rows}
+    return told
+
+
+def slow_above(totals, hours, k):
+    """The crane hours above k, hour by hour."""
+    loads = [(many + length - 1 - hour) // length for many, length in zip(totals, hours) for hour in range(length)]
+    return sum(max(load - k, 0) for load in loads)
+
+
+def fewest_above(fleet, k):
+    """The fewest crane hours above k that any plan of a small fleet has."""
+    return min(slow_above(totals, slow_hours(fleet), k) for totals in slow_totals(fleet))
+
+
+def slow_want(fleet, marks):
+    """Hour by hour, by the words of point [11]."""
+    marked = {hour for stretch, mark in zip(slow_stretches(fleet), marks) if mark for hour in range(*stretch)}
+    told = 0
+    for begin, end, need, most in fleet:
+        elsewhere = sum(most for hour in range(begin, end) if hour not in marked)
+        told += max(need - elsewhere, 0)
+    return told
+
+
+def every_marks(fleet):
+    return [list(marks) for marks in itertools.product((False, True), repeat=len(slow_stretches(fleet)))]
+
+
+def totals_of(plan):
+    return [sum(column) for column in zip(*plan)]
+
+
+def shifted(fleet, step):
+    return [(begin + step, end + step, need, most) for begin, end, need, most in fleet]
+
+
+def turned(fleet):
+    """With time turned about."""
+    return [(-end, -begin, need, most) for begin, end, need, most in fleet]
+
+
+def small_fleets(many=60):
+    """Fleets few of whose plans are unlike, so that all can be walked."""
+    chosen = [
+        [],
+        [(0, 1, 0, 0)],
+        [(0, 3, 0, 2)],
+        [(0, 3, 7, 3)],
+        [(0, 4, 5, 2), (2, 6, 3, 1)],
+        [(0, 2, 2, 1), (5, 7, 1, 1)],
+        [(0, 1, 3, 3), (0, 4, 4, 2)],
+        [(0, 2, 4, 2), (0, 2, 4, 2)],
+        [(0, 3, 3, 3), (1, 3, 2, 1), (2, 3, 1, 1)],
+        [(-2, 1, 3, 1), (0, 3, 4, 2), (1, 2, 2, 2)],
+    ]
+    drawn = [fleet for fleet in drawn_fleets(30 * many, 5) if 6 <= plans_in(fleet) <= 1000]
+    return chosen + drawn[:many]
+
+
+def plans_in(fleet):
+    """How many plans a small fleet has."""
+    plans = 1
+    for ship in fleet:
+        reach = [range(slow_room(ship, stretch) + 1) for stretch in slow_stretches(fleet)]
+        plans *= sum(sum(row) == ship[2] for row in itertools.product(*reach))
+    return plans
+
+
+def great_fleets(many=40):
+    """Fleets of eight ships with bounds, mosts and needs of all sizes to those of point [3]."""
+    source = random.Random(22)
+    return [[great_ship(source) for _ in range(8)] for _ in range(many)]
+
+
+def great_ship(source):
+    reach = source.choice((6, 1000, FAR))
+    begin, end = sorted(source.sample(range(-reach, reach + 1), 2))
+    most = source.choice((source.randint(0, 3), source.randint(0, GREAT_MOST), GREAT_MOST))
+    room = most * (end - begin)
+    return (begin, end, source.choice((room, source.randint(0, room), source.randint(0, room))), most)
+
+
+def far_stretches(fleet):
+    """The stretches, where the hours are too many to walk."""
+    bounds = sorted({bound for ship in fleet for bound in ship[:2]})
+    return list(zip(bounds, bounds[1:]))
+
+
+def chain_faults(fleet, plan, moves):
+    """What keeps moves from being a chain that evens the plan, by the words of point [15]; of all sizes."""
+    spans = far_stretches(fleet)
+    if type(moves) is not list or not moves:
+        return ["no list of one move at least"]
+    faults = []
+    for move in moves:
+        ship, off, on = move
+        if type(move) is not tuple or any(type(part) is not int or part < 0 for part in move) or off == on:
+            faults.append(f"{move} is no tuple of a ship and two unlike stretches")
+        if plan[ship][off] < 1 or plan[ship][on] >= overlap_room(fleet[ship], spans[on]):
+            faults.append(f"{move} can't be done")
+    for ahead, later in zip(moves, moves[1:]):
+        if later[1] != ahead[2]:
+            faults.append(f"{later} is not off the stretch that {ahead} goes on")
+    stand = [moves[0][1]] + [move[2] for move in moves]
+    if len(set(stand)) != len(stand):
+        faults.append("a stretch stands in it twice")
+    totals = totals_of(plan)
+    hours = [stop - start for start, stop in spans]
+    if -(-totals[stand[0]] // hours[stand[0]]) < totals[stand[-1]] // hours[stand[-1]] + 2:
+        faults.append("it does not even the plan")
+    return faults
+
+
+def early_plan(fleet):
+    """The plan in which each ship's crane hours lie as early as they can."""
+    plan = []
+    for ship in fleet:
+        left = ship[2]
+        row = []
+        for stretch in far_stretches(fleet):
+            row.append(min(left, overlap_room(ship, stretch)))
+            left -= row[-1]
+        plan.append(row)
+    return plan
+
+
+def ladder(step=1, most=1):
+    """Eight ships, each in two neighbouring stretches, and a plan whose one chain goes through all of them.
+
+    All loads are the most, but for one hour with one more in the first stretch and one with one less in the last.
+    """
+    fleet = [(number * step, (number + 2) * step, most * step, most) for number in range(8)]
+    fleet[0] = (0, 2 * step, most * step + 1, most + 1)
+    fleet[7] = (7 * step, 9 * step, 2 * most * step - 1, most)
+    plan = [[0] * 9 for _ in range(8)]
+    for number in range(8):
+        plan[number][number] = most * step
+    plan[0][0] += 1
+    plan[7][8] = most * step - 1
+    return fleet, plan
 
 
 def great_case():

@@ -2,12 +2,23 @@
 
 import unittest
 
+from evenquay.chains import chain, moved
 from evenquay.dealing import cranes, load
+from evenquay.evening import even, reason
 from evenquay.fleets import is_fleet, is_ship, room, stretches
+from evenquay.flows import under
 from evenquay.plans import above, is_plan, row_of
+from evenquay.wants import hours_of, want
 from tests.samples import (
-    FAR, GREAT_K, GREAT_MOST, GREAT_NEED, at_once, great_case, great_stretches, one_changed, overlap_room,
+    FAR, GREAT_K, GREAT_MOST, GREAT_NEED, at_once, chain_faults, early_plan, great_case, great_fleets,
+    great_stretches, ladder, one_changed, overlap_room, totals_of,
 )
+
+
+def numbers_about(fleet, plan):
+    """0, the sum of all mosts, each load of the plan and its neighbours, and far beyond."""
+    about = {height + step for height, _ in row_of(fleet, plan) for step in (-1, 0, 1)}
+    return sorted({0, sum(ship[3] for ship in fleet), GREAT_K} | {k for k in about if k >= 0})
 
 
 class Great(unittest.TestCase):
@@ -83,6 +94,98 @@ class Great(unittest.TestCase):
             self.assertIs(is_fleet(fleet), True)
             self.assertEqual(len(stretches(fleet)), 7)
             self.assertEqual(above([], [], GREAT_K + 1), 0)
+
+
+class GreatEvening(unittest.TestCase):
+    def setUp(self):
+        self.fleets = great_fleets() + [great_case()[0], ladder(10 ** 14, 10 ** 15 - 1)[0]]
+
+    def test_wants(self):
+        fleet, _ = great_case()
+        with at_once():
+            self.assertEqual(hours_of(fleet, [True] * 5), 2 * FAR)
+            self.assertEqual(hours_of(fleet, [False, True, False, False, True]), FAR - 1)
+            self.assertEqual(want(fleet, [True] * 5), sum(ship[2] for ship in fleet))
+            self.assertEqual(want(fleet, [False] * 5), 0)
+            # All of ship 0, all but one of ship 1, and none of ship 3; ship 7 has its room full.
+            halves = 2 * FAR * GREAT_MOST - 1
+            self.assertEqual(want(fleet, [False, False, False, True, True]), halves + GREAT_MOST - 1 + FAR * GREAT_MOST)
+
+    def test_under(self):
+        for fleet in self.fleets:
+            spans = stretches(fleet)
+            with at_once():
+                for k in (0, 1, 7, GREAT_MOST // 3, GREAT_MOST, sum(ship[3] for ship in fleet), GREAT_K):
+                    self.assert_under(fleet, spans, k)
+
+    def assert_under(self, fleet, spans, k):
+        many, part, marks = under(fleet, k)
+        for ship, row in zip(fleet, part):
+            self.assertTrue(all(0 <= one <= overlap_room(ship, span) for one, span in zip(row, spans)))
+            self.assertLessEqual(sum(row), ship[2])
+        for total, span in zip(totals_of(part), spans):
+            self.assertLessEqual(total, k * (span[1] - span[0]))
+        self.assertEqual(many, sum(map(sum, part)))
+        needs = sum(ship[2] for ship in fleet)
+        self.assertEqual(many, needs - want(fleet, marks) + k * hours_of(fleet, marks))
+
+    def test_even_and_reason(self):
+        # No plan has less above k than the want less k times the hours, so the reasons show that the plan is even.
+        for fleet in self.fleets:
+            with at_once():
+                plan = even(fleet)
+                self.assertIs(is_plan(fleet, plan), True)
+                for k in numbers_about(fleet, plan):
+                    marks = reason(fleet, plan, k)
+                    self.assertEqual(want(fleet, marks) - k * hours_of(fleet, marks), above(fleet, plan, k))
+                self.assertIsNone(chain(fleet, plan))
+
+    def test_even_where_all_is_far(self):
+        fleet = [(-FAR, FAR, GREAT_NEED // 2 + 1, GREAT_MOST), (0, FAR, GREAT_NEED // 2, GREAT_MOST)]
+        with at_once():
+            self.assertEqual(row_of(fleet, even(fleet)), [(GREAT_MOST + 1, 1), (GREAT_MOST, 2 * FAR - 1)])
+
+    def test_chains(self):
+        for fleet in self.fleets:
+            plan = early_plan(fleet)
+            with at_once():
+                told = chain(fleet, plan)
+                if told is not None:
+                    self.assertEqual(chain_faults(fleet, plan, told), [])
+                    behind = moved(fleet, plan, told)
+                    self.assertIs(is_plan(fleet, behind), True)
+                    first, last = told[0][1], told[-1][2]
+                    self.assertLess(self.squares(fleet, behind, first, last), self.squares(fleet, plan, first, last))
+
+    def squares(self, fleet, plan, first, last):
+        """The sum of the squares of all loads of two stretches: less where the loads are evener."""
+        spans = stretches(fleet)
+        told = 0
+        for place in (first, last):
+            least, fuller = divmod(totals_of(plan)[place], spans[place][1] - spans[place][0])
+            told += fuller * (least + 1) ** 2 + (spans[place][1] - spans[place][0] - fuller) * least ** 2
+        return told
+
+    def test_one_chain_through_all_eight_ships(self):
+        step = 10 ** 14
+        fleet, plan = ladder(step, GREAT_MOST - 1)
+        with at_once():
+            told = chain(fleet, plan)
+            self.assertEqual(told, [(number, number, number + 1) for number in range(8)])
+            behind = moved(fleet, plan, told)
+            self.assertEqual(row_of(fleet, behind), [(GREAT_MOST - 1, 9 * step)])
+            self.assertIsNone(chain(fleet, behind))
+            self.assertEqual(row_of(fleet, even(fleet)), [(GREAT_MOST - 1, 9 * step)])
+
+    def test_somewhat_beyond_is_not_refused(self):
+        fleet = great_fleets(1)[0] + [(-2 * FAR, 3 * FAR, 5 * FAR * FAR, 4 * GREAT_MOST), (0, 2, 3, 2)]
+        with at_once():
+            plan = even(fleet)
+            self.assertIs(is_plan(fleet, plan), True)
+            self.assertIsNone(chain(fleet, plan))
+            self.assertEqual(above(fleet, plan, GREAT_K * 10), 0)
+            marks = reason(fleet, plan, GREAT_K * 10)
+            self.assertEqual(want(fleet, marks) - GREAT_K * 10 * hours_of(fleet, marks), 0)
 
 
 if __name__ == "__main__":

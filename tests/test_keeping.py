@@ -3,20 +3,47 @@
 import copy
 import unittest
 
+from evenquay.chains import chain, moved
 from evenquay.dealing import cranes, load
+from evenquay.errors import QuayError
+from evenquay.evening import even, reason
 from evenquay.fleets import is_fleet, is_ship, room, stretches
+from evenquay.flows import under
 from evenquay.plans import above, is_plan, row_of
-from tests.samples import ODDITIES, drawn_cases
+from evenquay.wants import hours_of, want
+from tests.samples import ODDITIES, drawn_cases, ladder
 
 FLEET = [(0, 4, 5, 2), (2, 6, 3, 1)]
 PLAN = [[3, 2, 0], [0, 1, 2]]
+
+MARKS = [False, True, True]
+
+# A plan that is not even, and a chain that evens it.
+UNEVEN = [[4, 1, 0], [0, 1, 2]]
+CHAIN = [(0, 0, 1)]
 
 # Each function with what is handed in.
 CALLS = (
     (is_ship, FLEET[0]), (is_fleet, FLEET), (stretches, FLEET), (room, FLEET[0], (0, 2)),
     (is_plan, FLEET, PLAN), (above, FLEET, PLAN, 1), (row_of, FLEET, PLAN),
-    (cranes, FLEET, PLAN, 1, 2), (load, FLEET, PLAN, 2),
+    (cranes, FLEET, PLAN, 1, 2), (load, FLEET, PLAN, 2), (hours_of, FLEET, MARKS), (want, FLEET, MARKS),
+    (under, FLEET, 0), (under, FLEET, 1), (under, FLEET, 10 ** 40), (even, FLEET),
+    (reason, FLEET, PLAN, 0), (reason, FLEET, PLAN, 1), (reason, FLEET, PLAN, 10 ** 40),
+    (chain, FLEET, PLAN), (chain, FLEET, UNEVEN), (chain, *ladder()), (moved, FLEET, UNEVEN, CHAIN),
+    (hours_of, [], []), (want, [], []), (under, [], 1), (even, []), (reason, [], [], 1), (chain, [], []),
 )
+
+# Those that tell lists, perhaps within a tuple or a list.
+TELLING = tuple(call for call in CALLS if call[0] in (stretches, row_of, under, even, reason, chain, moved))
+
+
+def lists_in(thing):
+    """All lists in a thing, the thing itself among them."""
+    found = [thing] if isinstance(thing, list) else []
+    if isinstance(thing, (list, tuple)):
+        for part in thing:
+            found.extend(lists_in(part))
+    return found
 
 
 class HandedIn(unittest.TestCase):
@@ -45,6 +72,28 @@ class HandedIn(unittest.TestCase):
             self.assert_unchanged(row_of, fleet, plan)
             self.assert_unchanged(above, fleet, plan, 1)
             self.assert_unchanged(load, fleet, plan, 0)
+            marks = [place % 2 == 0 for place, _ in enumerate(stretches(fleet))]
+            self.assert_unchanged(hours_of, fleet, marks)
+            self.assert_unchanged(want, fleet, marks)
+            self.assert_unchanged(even, fleet)
+            for k in (0, 1, 2, 10 ** 40):
+                self.assert_unchanged(under, fleet, k)
+                self.assert_unchanged(reason, fleet, plan, k)
+            self.assert_unchanged(chain, fleet, plan)
+            moves = chain(fleet, plan)
+            if moves is not None:
+                self.assert_unchanged(moved, fleet, plan, moves)
+
+    def test_stays_as_it_is_where_it_is_refused(self):
+        for thing in ODDITIES + ([[0, 1, 1, 1]], [(0, 1, 2, 1)], [[3, 2, 0], [2, 1, 0]], [[3, None, 0], [0, 1, 2]]):
+            for call in ((even, thing), (reason, thing, thing, 1), (chain, thing, PLAN), (moved, thing, PLAN, CHAIN),
+                         (reason, FLEET, thing, 1), (chain, FLEET, thing), (moved, FLEET, thing, CHAIN)):
+                held = copy.deepcopy(call[1:])
+                try:
+                    call[0](*call[1:])
+                except QuayError:
+                    pass
+                self.assertEqual(repr(call[1:]), repr(held))
 
     def test_is_not_kept(self):
         fleet = copy.deepcopy(FLEET)
@@ -58,35 +107,63 @@ class HandedIn(unittest.TestCase):
         self.assertEqual(above(fleet, plan, 2), 1)
         self.assertEqual(load(fleet, plan, 1), 3)
         self.assertEqual(cranes(fleet, plan, 2, 0), 2)
+        self.assertEqual(want(fleet, [True, False, False, False]), 2)
+        self.assertEqual(under(fleet, 10 ** 40)[0], 10)
+        self.assertIs(is_plan(fleet, even(fleet)), True)
+
+    def test_a_list_that_stands_twice_in_a_plan(self):
+        fleet = [(0, 2, 3, 3), (0, 2, 3, 3), (1, 2, 0, 0)]
+        row = [3, 0]
+        self.assertEqual(moved(fleet, [row, row, [0, 0]], [(0, 0, 1)]), [[2, 1], [3, 0], [0, 0]])
+        self.assertEqual(row, [3, 0])
 
 
 class Told(unittest.TestCase):
     def assert_own(self, asked, *handed):
         first = asked(*handed)
-        held = list(first)
-        first.append("mine")
-        first.reverse()
+        held = copy.deepcopy(first)
+        for one in lists_in(first):
+            one.append("mine")
+            one.reverse()
         second = asked(*handed)
-        self.assertEqual(second, held)
-        self.assertIsNot(second, first)
-        second.clear()
-        self.assertEqual(first, ["mine"] + held[::-1])
-        self.assertEqual(asked(*handed), held)
+        self.assertEqual(repr(second), repr(held))
+        for one in lists_in(second):
+            one.clear()
+        self.assertEqual(repr(asked(*handed)), repr(held))
+
+    def assert_no_two_one(self, asked, *handed):
+        first = asked(*handed)
+        second = asked(*handed)
+        lists = lists_in(first) + lists_in(second) + lists_in(handed)
+        self.assertEqual(len({id(one) for one in lists}), len(lists), (asked, handed))
 
     def test_lists_are_the_askers_own(self):
-        self.assert_own(stretches, FLEET)
-        self.assert_own(row_of, FLEET, PLAN)
+        for call in TELLING + ((stretches, []), (row_of, [], [])):
+            self.assert_own(*call)
 
-    def test_empty_lists_are_the_askers_own(self):
-        self.assert_own(stretches, [])
-        self.assert_own(row_of, [], [])
+    def test_no_two_lists_are_one(self):
+        for call in TELLING + ((stretches, []), (row_of, [], [])):
+            self.assert_no_two_one(*call)
 
-    def test_a_told_list_is_not_the_one_handed_in(self):
-        fleet = []
-        plan = []
-        self.assertIsNot(stretches(fleet), fleet)
-        self.assertIsNot(row_of(fleet, plan), fleet)
-        self.assertIsNot(row_of(fleet, plan), plan)
+    def test_no_two_lists_are_one_in_drawn_cases(self):
+        for fleet, plan in drawn_cases(60, 6):
+            self.assert_no_two_one(even, fleet)
+            self.assert_no_two_one(chain, fleet, plan)
+            for k in (0, 1, 2, 10 ** 40):
+                self.assert_no_two_one(under, fleet, k)
+                self.assert_no_two_one(reason, fleet, plan, k)
+            moves = chain(fleet, plan)
+            if moves is not None:
+                self.assert_no_two_one(moved, fleet, plan, moves)
+
+    def test_a_plan_handed_back_is_not_kept(self):
+        plan = even(FLEET)
+        behind = moved(FLEET, UNEVEN, CHAIN)
+        behind[0][0] = 77
+        plan[0][0] = 77
+        self.assertEqual(UNEVEN, [[4, 1, 0], [0, 1, 2]])
+        self.assertEqual(CHAIN, [(0, 0, 1)])
+        self.assertIs(is_plan(FLEET, even(FLEET)), True)
 
 
 if __name__ == "__main__":

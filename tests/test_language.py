@@ -43,6 +43,17 @@ FORMS = (
     ast.operator, ast.unaryop, ast.boolop, ast.cmpop,
 )
 BARRED_OPERATORS = (ast.Div, ast.MatMult)
+# L23: what is walked on the spot, and what may walk it as its first thing.
+WALKED = set("zip enumerate reversed range items keys values".split())
+WALKERS = set("list tuple dict sorted sum any all enumerate zip min max".split())
+
+CHANGES = set("append clear extend insert pop remove reverse setdefault update".split())
+
+# L22: the keywords at names of Python's own.
+KEYWORDS = {
+    "sorted": {"key", "reverse"}, "min": {"key", "default"}, "max": {"key", "default"},
+    "sum": {"start"}, "enumerate": {"start"}, "zip": {"strict"},
+}
 TWO_UNDERSCORES = set("__init__ __eq__ __repr__ __str__ __len__ __all__ __version__ __name__".split())
 
 
@@ -146,6 +157,87 @@ def name_faults(tree, name):
     return faults
 
 
+def called(node):
+    """The name by which a call calls, or None."""
+    if not isinstance(node, ast.Call):
+        return None
+    return node.func.id if isinstance(node.func, ast.Name) else getattr(node.func, "attr", None)
+
+
+def walked_at_once(node, around):
+    """L23: whether what is walked stands where it is walked on the spot."""
+    if isinstance(around, (ast.For, ast.comprehension)):
+        return around.iter is node
+    joined = called(around) == "join" and isinstance(around.func.value, ast.Constant)
+    return (called(around) in WALKERS or joined) and around.args[0] is node
+
+
+def set_in_place(around):
+    """L24: whether a set stands beside in, == or another set, or straight within sorted or len."""
+    return isinstance(around, (ast.Compare, ast.BinOp)) or called(around) in ("sorted", "len")
+
+
+def use_faults(tree):
+    """L13, L19, L21 to L24 and L27: how Python's own is used."""
+    faults = []
+    around = {child: node for node in ast.walk(tree) for child in ast.iter_child_nodes(node)}
+    for node in ast.walk(tree):
+        name = called(node)
+        if name in WALKED and not walked_at_once(node, around[node]):
+            faults.append("L23")
+        if name in ("set", "frozenset") and not set_in_place(around[node]):
+            faults.append("L24")
+        if name in OWN_NAMES and {given.arg for given in node.keywords} - KEYWORDS.get(name, set()):
+            faults.append("L22")
+        if isinstance(node, ast.Name) and node.id in OWN_NAMES - {"int", "str", "bool", "list", "tuple", "dict"}:
+            handed = not isinstance(around[node], (ast.Call, ast.ClassDef, ast.ExceptHandler, ast.Tuple, ast.keyword))
+            if handed or isinstance(around[node], ast.Call) and around[node].func is not node:
+                faults.append("L22")
+        if isinstance(node, ast.Set) and len(node.elts) > 2 and not isinstance(around[node], ast.Compare):
+            faults.append("L13")
+        if isinstance(node, ast.ExceptHandler) and getattr(node.type, "id", "Exception") in ("Exception", "TypeError"):
+            faults.append("L19")
+        if isinstance(node, ast.arg) and node.annotation or isinstance(node, ast.FunctionDef) and node.returns:
+            faults.append("L21")
+        if isinstance(node, ast.Attribute) and node.attr in OWN_METHODS and isinstance(node.ctx, ast.Load):
+            if getattr(around[node], "func", None) is not node:
+                faults.append("L25")
+        if isinstance(node, ast.BinOp) and isinstance(node.op, ast.Pow):
+            if not (isinstance(node.right, ast.Constant) and 0 <= node.right.value <= 64):
+                faults.append("L27")
+        if isinstance(node, ast.Constant) and isinstance(node.value, str) and "%" in node.value:
+            faults.append("L27")
+    return faults
+
+
+def walked_names(node):
+    """The names of what a loop walks, itself or through enumerate, zip, reversed, items and their like."""
+    if isinstance(node, ast.Name):
+        return {node.id}
+    inner = []
+    if called(node) in ("enumerate", "zip", "reversed"):
+        inner = node.args
+    elif called(node) in ("items", "keys", "values"):
+        inner = [node.func.value]
+    return set().union(*[walked_names(one) for one in inner])
+
+
+def loop_faults(tree):
+    """L23: what a loop walks is not changed in it."""
+    faults = []
+    for loop in ast.walk(tree):
+        if not isinstance(loop, ast.For):
+            continue
+        names = walked_names(loop.iter)
+        for node in ast.walk(loop):
+            value = getattr(node, "value", None) or getattr(getattr(node, "func", None), "value", None)
+            stored = isinstance(node, ast.Subscript) and isinstance(node.ctx, ast.Store)
+            changed = called(node) in CHANGES and isinstance(node.func, ast.Attribute)
+            if (stored or changed) and isinstance(value, ast.Name) and value.id in names:
+                faults.append("L23")
+    return faults
+
+
 def top_names(tree):
     """The names that a file binds by itself, imports left out, each as often as it is bound."""
     names = []
@@ -175,7 +267,8 @@ def top_faults(tree):
 def faults_of(source, name="some"):
     tree = ast.parse(source)
     told = sign_faults(source) + function_faults(tree) + import_faults(tree, name) + form_faults(tree)
-    return sorted(set(told + name_faults(tree, name) + top_faults(tree)))
+    told += name_faults(tree, name) + use_faults(tree) + loop_faults(tree)
+    return sorted(set(told + top_faults(tree)))
 
 
 def draws(tree):
@@ -210,7 +303,7 @@ class Package(unittest.TestCase):
         self.trees = {name: ast.parse(source) for name, source in self.sources.items()}
 
     def test_the_files_of_the_document_are_there(self):
-        for name in ("__init__", "errors", "fleets", "plans", "dealing"):
+        for name in ("__init__", "errors", "fleets", "plans", "dealing", "wants", "flows", "evening", "chains"):
             self.assertIn(name, self.sources)
 
     def test_nothing_else_lies_in_the_folder(self):
@@ -302,6 +395,29 @@ class TheTestItself(unittest.TestCase):
         self.assert_fault("L17", "def f(x):\n    x.format = 1\n")
         self.assert_fault("L25", "def f(x):\n    x.sort()\n")
         self.assert_fault("L3", "print(1)\n")
+
+    def test_uses(self):
+        for body in ("y = zip(x, x)", "return reversed(x)", "y = x.items()", "f(range(3))", "return min(x, range(3))"):
+            self.assert_fault("L23", f"def f(x):\n    {body}\n")
+        for body in ("for y in x:\n        x.append(y)", "for k, y in enumerate(x):\n        x[k] = y"):
+            self.assert_fault("L23", f"def f(x):\n    {body}\n")
+        self.assert_fault("L24", "def f(x):\n    y = set(x)\n    return y\n")
+        self.assert_fault("L24", "def f(x):\n    return [y for y in set(x)]\n")
+        self.assert_fault("L22", "def f(x):\n    return int(x, base=2)\n")
+        self.assert_fault("L22", "def f(x):\n    y = len\n    return y(x)\n")
+        self.assert_fault("L13", "def f(x):\n    y = {1, 2, 3}\n    return x in y\n")
+        self.assert_fault("L19", "def f(x):\n    try:\n        f(x)\n    except Exception:\n        pass\n")
+        self.assert_fault("L21", "def f(x: int):\n    return x\n")
+        self.assert_fault("L25", "def f(x):\n    y = x.append\n    return y\n")
+        self.assert_fault("L27", "def f(x):\n    return 2 ** x\n")
+        self.assert_fault("L27", "ONE = '1%'\n")
+
+    def test_uses_as_they_should_be(self):
+        for body in ("return list(zip(x, x))", "return sorted(set(x))", "return len(set(x) | set(x))",
+                     "return sorted(x.items(), reverse=True)", "return [k for k, y in enumerate(x)]",
+                     "return max([len(y) for y in x], default=0)", "return 10 ** 40",
+                     "for y in list(x):\n        x.append(y)\n    return isinstance(x, (int, str))"):
+            self.assertEqual(faults_of(f"def f(x):\n    {body}\n"), [], body)
 
 
 if __name__ == "__main__":
