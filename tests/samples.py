@@ -16,6 +16,19 @@ ODDITIES = (
     (), (0,), (0, 1), ((),), (((1,),),), ((((),),),), (None,), ("1",), (False,),
 )
 
+# The signs of point [2] but for tabs and line ends.
+SIGNS = tuple(map(chr, range(ord(" "), ord("~") + 1)))
+
+# Words that are no number and no name of point [19], though Python might read some of them as numbers.
+WRONG_NUMBERS = tuple("1" + sign for sign in SIGNS if not sign.isdigit()) + (
+    "", "-", "+", "+1", "-0", "--1", "+-1", "-+1", "00", "01", "-01", "1_0", "_1", "1_", "1.0", "1e3", "0x1", "1-", "a",
+    "A", "1a", "1,0", "1" + "0" * 31, "-1" + "0" * 31, "9" * 32, "0" * 32, "1" * 5000, "1\t", "\t1", "1\n", "\n", "'1'",
+)
+WRONG_NAMES = tuple("a" + sign for sign in SIGNS if not sign.islower()) + (
+    "", "abcdefghi", "a" * 30, "A", "Ab", "aB", "ABCDEFGH", "a1", "1", "0", "a_b", "_", "a-b", "-", "a.", "~", "a;",
+    ";a", "a\t", "\ta", "a\n", "\n", "'a'", "{", "`", "@", "[", "NAME",
+)
+
 # Point [3]: the greatest things that are promised.
 FAR = 10 ** 15
 GREAT_MOST = 10 ** 15
@@ -128,6 +141,19 @@ def fewest_above(fleet, k):
     return min(slow_above(totals, slow_hours(fleet), k) for totals in slow_totals(fleet))
 
 
+def slow_peak(fleet):
+    """The least greatest load that any plan of a small fleet has."""
+    hours = slow_hours(fleet)
+    return min(max((-(-many // length) for many, length in zip(totals, hours)), default=0)
+               for totals in slow_totals(fleet))
+
+
+def slow_cost(fleet, plan, prices):
+    """Crane by crane of each hour, by the words of point [18]."""
+    return sum(prices[min(crane, len(prices) - 1)]
+               for load in slow_loads(fleet, plan).values() for crane in range(load))
+
+
 def slow_want(fleet, marks):
     """Hour by hour, by the words of point [11]."""
     marked = {hour for stretch, mark in zip(slow_stretches(fleet), marks) if mark for hour in range(*stretch)}
@@ -136,6 +162,11 @@ def slow_want(fleet, marks):
         elsewhere = sum(most for hour in range(begin, end) if hour not in marked)
         told += max(need - elsewhere, 0)
     return told
+
+
+def slow_marked(fleet, marks):
+    """How many hours are marked."""
+    return sum(length for length, mark in zip(slow_hours(fleet), marks) if mark)
 
 
 def every_marks(fleet):
@@ -283,6 +314,17 @@ def overlap_room(ship, stretch):
     """The room by the overlap of window and stretch, where the hours are too many to walk."""
     overlap = min(ship[1], stretch[1]) - max(ship[0], stretch[0])
     return ship[3] * max(overlap, 0)
+
+
+def told_text(fleet):
+    """A text that tells the fleet, its ships called a, b, c .."""
+    return "; ".join(" ".join(("abcdefghij"[number],) + tuple(map(str, ship))) for number, ship in enumerate(fleet))
+
+
+def edited(text, source, signs):
+    """The text with one sign more, fewer, or another."""
+    place = source.randint(0, len(text))
+    return text[:place] + source.choice(signs) + text[place + source.randint(0, 1):]
 
 
 def one_changed(thing, place, part):

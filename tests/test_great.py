@@ -4,14 +4,18 @@ import unittest
 
 from evenquay.chains import chain, moved
 from evenquay.dealing import cranes, load
+from evenquay.desk import Desk
 from evenquay.evening import even, reason
 from evenquay.fleets import is_fleet, is_ship, room, stretches
 from evenquay.flows import under
+from evenquay.peaks import fitting, peak, too_much
 from evenquay.plans import above, is_plan, row_of
+from evenquay.prices import cost
+from evenquay.texts import read_fleet, show_fleet
 from evenquay.wants import hours_of, want
 from tests.samples import (
-    FAR, GREAT_K, GREAT_MOST, GREAT_NEED, at_once, chain_faults, early_plan, great_case, great_fleets,
-    great_stretches, ladder, one_changed, overlap_room, totals_of,
+    FAR, GREAT_K, GREAT_MOST, GREAT_NEED, at_once, chain_faults, early_plan, far_stretches, great_case, great_fleets,
+    great_stretches, ladder, one_changed, overlap_room, told_text, totals_of,
 )
 
 
@@ -186,6 +190,103 @@ class GreatEvening(unittest.TestCase):
             self.assertEqual(above(fleet, plan, GREAT_K * 10), 0)
             marks = reason(fleet, plan, GREAT_K * 10)
             self.assertEqual(want(fleet, marks) - GREAT_K * 10 * hours_of(fleet, marks), 0)
+
+
+class GreatPeaksAndPrices(unittest.TestCase):
+    def setUp(self):
+        self.fleets = great_fleets() + [great_case()[0], ladder(10 ** 14, 10 ** 15 - 1)[0]]
+
+    def greatest(self, fleet, plan):
+        spans = far_stretches(fleet)
+        return max(-(-many // (stop - start)) for many, (start, stop) in zip(totals_of(plan), spans))
+
+    def test_peaks(self):
+        for fleet in self.fleets:
+            with at_once():
+                least = peak(fleet)
+                for many in (least, least + 1, GREAT_K):
+                    plan = fitting(fleet, many)
+                    self.assertIs(is_plan(fleet, plan), True)
+                    self.assertLessEqual(self.greatest(fleet, plan), many)
+                    self.assertIsNone(too_much(fleet, many))
+                for many in sorted({0, least // 2, least - 1}):
+                    self.assertIsNone(fitting(fleet, many))
+                    marks = too_much(fleet, many)
+                    self.assertGreater(want(fleet, marks), many * hours_of(fleet, marks))
+
+    def test_a_peak_where_all_is_far(self):
+        with at_once():
+            self.assertEqual(peak([(-FAR, FAR, GREAT_NEED, GREAT_MOST)]), GREAT_MOST)
+            self.assertEqual(peak([(-FAR, FAR, GREAT_NEED, GREAT_MOST)] * 8), 8 * GREAT_MOST)
+            self.assertEqual(peak([(-FAR, FAR, 1, GREAT_MOST)]), 1)
+            self.assertEqual(peak([(-FAR, FAR, 2 * FAR + 1, 2), (0, 1, 0, 0)]), 2)
+
+    def test_costs(self):
+        fleet, plan = great_case()
+        loads = ((4 * GREAT_MOST - 1, 1), (3 * GREAT_MOST, FAR), (2 * GREAT_MOST + 1, 7), (2 * GREAT_MOST, FAR - 8))
+        for prices in ([0], [GREAT_K], [-GREAT_K], [-GREAT_K, GREAT_K], [GREAT_K] * 60, [-GREAT_K] * 60,
+                       [-GREAT_K] * 30 + [GREAT_K] * 30, [GREAT_K - 60 + step for step in range(60)]):
+            # All loads are more than sixty.
+            hour_by_load = [(sum(prices) + (load - len(prices)) * prices[-1], hours) for load, hours in loads]
+            with at_once():
+                self.assertEqual(cost(fleet, plan, prices), sum(spent * hours for spent, hours in hour_by_load))
+
+    def test_an_even_plan_costs_no_more(self):
+        for fleet in self.fleets:
+            with at_once():
+                for prices in ([-GREAT_K, GREAT_K], list(range(60)), [0] * 59 + [GREAT_K], [7]):
+                    told = cost(fleet, even(fleet), prices)
+                    self.assertLessEqual(told, cost(fleet, early_plan(fleet), prices))
+
+
+class GreatDesk(unittest.TestCase):
+    def setUp(self):
+        self.fleets = great_fleets(15) + [great_case()[0], ladder(10 ** 14, 10 ** 15 - 1)[0]]
+
+    def test_texts(self):
+        for fleet in self.fleets:
+            text = told_text(fleet)
+            with at_once():
+                self.assertEqual(read_fleet(text), (list("abcdefgh"), fleet))
+                self.assertEqual(show_fleet(list("abcdefgh"), fleet), text)
+
+    def test_each_row(self):
+        for fleet in self.fleets:
+            with at_once():
+                self.assert_rows(Desk(told_text(fleet)), fleet)
+
+    def test_each_row_behind_ships_that_come_one_by_one(self):
+        for fleet in self.fleets:
+            desk = Desk()
+            with at_once():
+                for name, ship in zip("abcdefgh", fleet):
+                    self.assertEqual(desk.say(" ".join(("ship", name) + tuple(map(str, ship)))), "ok")
+                self.assert_rows(desk, fleet)
+
+    def assert_rows(self, desk, fleet):
+        plan = even(fleet)
+        self.assertEqual(desk.say("fleet"), told_text(fleet))
+        self.assertEqual(desk.say("peak"), str(peak(fleet)))
+        self.assertEqual(desk.say("row"), " ".join(f"{height}x{hours}" for height, hours in row_of(fleet, plan)))
+        for k in (0, peak(fleet) - 1, peak(fleet), 10 ** 31 - 1):
+            self.assertEqual(desk.say(f"above {k}"), str(above(fleet, plan, k)))
+        for prices in ([1 - 10 ** 31, 10 ** 31 - 1], [10 ** 31 - 1] * 20, list(range(20)), [1 - 10 ** 31] * 20):
+            self.assertEqual(desk.say("cost " + " ".join(map(str, prices))), str(cost(fleet, plan, prices)))
+        for hour in (-FAR, -FAR + 1, -1, 0, 1, FAR - 1, FAR):
+            working = [int(desk.say(f"cranes {name} {hour}")) for name in "abcdefgh"]
+            self.assertEqual(desk.say(f"load {hour}"), str(sum(working)))
+            for many, (begin, end, _, most) in zip(working, fleet):
+                self.assertTrue(0 <= many <= (most if begin <= hour < end else 0))
+
+    def test_where_all_is_far(self):
+        desk = Desk(f"a {-FAR} {FAR} {GREAT_NEED} {GREAT_MOST}; b 0 {FAR} {FAR * GREAT_MOST} {GREAT_MOST}")
+        with at_once():
+            self.assertEqual(desk.say("row"), f"{2 * GREAT_MOST}x{FAR} {GREAT_MOST}x{FAR}")
+            self.assertEqual(desk.say(f"above {GREAT_MOST}"), str(FAR * GREAT_MOST))
+            self.assertEqual(desk.say(f"cranes a {-FAR}"), str(GREAT_MOST))
+            self.assertEqual(desk.say("gone a"), "ok")
+            self.assertEqual(desk.say("peak"), str(GREAT_MOST))
+            self.assertEqual(desk.say(f"load {-FAR}"), "0")
 
 
 if __name__ == "__main__":

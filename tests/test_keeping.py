@@ -5,13 +5,17 @@ import unittest
 
 from evenquay.chains import chain, moved
 from evenquay.dealing import cranes, load
+from evenquay.desk import Desk
 from evenquay.errors import QuayError
 from evenquay.evening import even, reason
 from evenquay.fleets import is_fleet, is_ship, room, stretches
 from evenquay.flows import under
+from evenquay.peaks import fitting, peak, too_much
 from evenquay.plans import above, is_plan, row_of
+from evenquay.prices import cost
+from evenquay.texts import read_fleet, show_fleet
 from evenquay.wants import hours_of, want
-from tests.samples import ODDITIES, drawn_cases, ladder
+from tests.samples import ODDITIES, drawn_cases, ladder, told_text
 
 FLEET = [(0, 4, 5, 2), (2, 6, 3, 1)]
 PLAN = [[3, 2, 0], [0, 1, 2]]
@@ -30,11 +34,18 @@ CALLS = (
     (under, FLEET, 0), (under, FLEET, 1), (under, FLEET, 10 ** 40), (even, FLEET),
     (reason, FLEET, PLAN, 0), (reason, FLEET, PLAN, 1), (reason, FLEET, PLAN, 10 ** 40),
     (chain, FLEET, PLAN), (chain, FLEET, UNEVEN), (chain, *ladder()), (moved, FLEET, UNEVEN, CHAIN),
+    (peak, FLEET), (fitting, FLEET, 1), (fitting, FLEET, 2), (fitting, FLEET, 10 ** 40),
+    (too_much, FLEET, 0), (too_much, FLEET, 1), (too_much, FLEET, 2),
+    (cost, FLEET, PLAN, [1]), (cost, FLEET, PLAN, [-1, 0, 3]), (cost, FLEET, PLAN, list(range(60))),
+    (read_fleet, "a 0 4 5 2; b 2 6 3 1"), (show_fleet, ["a", "b"], FLEET),
     (hours_of, [], []), (want, [], []), (under, [], 1), (even, []), (reason, [], [], 1), (chain, [], []),
+    (peak, []), (fitting, [], 0), (too_much, [], 0), (cost, [], [], [1]), (read_fleet, ""), (show_fleet, [], []),
 )
 
 # Those that tell lists, perhaps within a tuple or a list.
-TELLING = tuple(call for call in CALLS if call[0] in (stretches, row_of, under, even, reason, chain, moved))
+TELLING = tuple(call for call in CALLS if call[0] in (
+    stretches, row_of, under, even, reason, chain, moved, fitting, too_much, read_fleet,
+))
 
 
 def lists_in(thing):
@@ -79,6 +90,11 @@ class HandedIn(unittest.TestCase):
             for k in (0, 1, 2, 10 ** 40):
                 self.assert_unchanged(under, fleet, k)
                 self.assert_unchanged(reason, fleet, plan, k)
+                self.assert_unchanged(fitting, fleet, k)
+                self.assert_unchanged(too_much, fleet, k)
+            self.assert_unchanged(peak, fleet)
+            self.assert_unchanged(cost, fleet, plan, [-1, 0, 2])
+            self.assert_unchanged(show_fleet, list("abcd"[:len(fleet)]), fleet)
             self.assert_unchanged(chain, fleet, plan)
             moves = chain(fleet, plan)
             if moves is not None:
@@ -87,7 +103,9 @@ class HandedIn(unittest.TestCase):
     def test_stays_as_it_is_where_it_is_refused(self):
         for thing in ODDITIES + ([[0, 1, 1, 1]], [(0, 1, 2, 1)], [[3, 2, 0], [2, 1, 0]], [[3, None, 0], [0, 1, 2]]):
             for call in ((even, thing), (reason, thing, thing, 1), (chain, thing, PLAN), (moved, thing, PLAN, CHAIN),
-                         (reason, FLEET, thing, 1), (chain, FLEET, thing), (moved, FLEET, thing, CHAIN)):
+                         (reason, FLEET, thing, 1), (chain, FLEET, thing), (moved, FLEET, thing, CHAIN),
+                         (peak, thing), (fitting, thing, 1), (too_much, thing, 1), (cost, thing, PLAN, [1, 2]),
+                         (cost, FLEET, thing, [1, 2]), (read_fleet, thing), (Desk, thing), (Desk().say, thing)):
                 held = copy.deepcopy(call[1:])
                 try:
                     call[0](*call[1:])
@@ -152,6 +170,9 @@ class Told(unittest.TestCase):
             for k in (0, 1, 2, 10 ** 40):
                 self.assert_no_two_one(under, fleet, k)
                 self.assert_no_two_one(reason, fleet, plan, k)
+                self.assert_no_two_one(fitting, fleet, k)
+                self.assert_no_two_one(too_much, fleet, k)
+            self.assert_no_two_one(read_fleet, told_text(fleet))
             moves = chain(fleet, plan)
             if moves is not None:
                 self.assert_no_two_one(moved, fleet, plan, moves)
@@ -164,6 +185,17 @@ class Told(unittest.TestCase):
         self.assertEqual(UNEVEN, [[4, 1, 0], [0, 1, 2]])
         self.assertEqual(CHAIN, [(0, 0, 1)])
         self.assertIs(is_plan(FLEET, even(FLEET)), True)
+
+    def test_what_is_done_to_a_read_fleet_changes_no_desk(self):
+        text = "a 0 4 5 2; b 2 6 3 1"
+        desk = Desk(text)
+        names, fleet = read_fleet(text)
+        names.clear()
+        fleet.append((0, 1, 9, 9))
+        self.assertEqual(desk.say("fleet"), text)
+        self.assertEqual(desk.say("row"), "2x2 1x4")
+        self.assertEqual(read_fleet(text), (["a", "b"], FLEET))
+        self.assertEqual(show_fleet(["a", "b"], FLEET), text)
 
 
 if __name__ == "__main__":

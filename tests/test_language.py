@@ -47,6 +47,8 @@ BARRED_OPERATORS = (ast.Div, ast.MatMult)
 WALKED = set("zip enumerate reversed range items keys values".split())
 WALKERS = set("list tuple dict sorted sum any all enumerate zip min max".split())
 
+# L15: the methods that only read a list or dict, and those that change one.
+READING = set("get items keys values count index copy".split())
 CHANGES = set("append clear extend insert pop remove reverse setdefault update".split())
 
 # L22: the keywords at names of Python's own.
@@ -54,6 +56,22 @@ KEYWORDS = {
     "sorted": {"key", "reverse"}, "min": {"key", "default"}, "max": {"key", "default"},
     "sum": {"start"}, "enumerate": {"start"}, "zip": {"strict"},
 }
+# L17: not as names.
+NOT_AS_NAMES = set(
+    "attrgetter breakpoint builtins compile copyright credits delattr dir eval exec exit gc getattr globals hasattr "
+    "help id importlib license locals methodcaller os quit setattr super vars".split()
+)
+
+# L26: what Python's own values have as a method or a value, and which of these an object's own may be called like.
+OF_PYTHON = {name for kind in (str, int, list, dict, set, bytes) for name in dir(kind) if not name.startswith("__")}
+FREE_METHODS = OWN_METHODS | {"add", "discard"}
+FREE_VALUES = set("count index title find get join lower upper split strip copy add".split())
+BARRED_VALUES = {"args"}
+
+# L18: of Python's own error classes, those that an error class may stand under.
+ERROR_BASES = {name for name in OWN_NAMES if name[0].isupper()} - {"StopIteration", "AttributeError"}
+CLASS_METHODS = set("__init__ __eq__ __repr__ __str__ __len__".split())
+
 TWO_UNDERSCORES = set("__init__ __eq__ __repr__ __str__ __len__ __all__ __version__ __name__".split())
 
 
@@ -149,7 +167,7 @@ def name_faults(tree, name):
             word = node.arg
         if word is not None and word.startswith("_") and word not in TWO_UNDERSCORES:
             faults.append("L12")
-        if word in BARRED_NAMES:
+        if word in BARRED_NAMES or isinstance(node, (ast.Name, ast.arg)) and word in NOT_AS_NAMES:
             faults.append("L17")
         if isinstance(node, ast.Call) and isinstance(node.func, ast.Attribute):
             if node.func.attr not in OWN_METHODS and node.func.attr not in methods:
@@ -196,6 +214,8 @@ def use_faults(tree):
         if isinstance(node, ast.Set) and len(node.elts) > 2 and not isinstance(around[node], ast.Compare):
             faults.append("L13")
         if isinstance(node, ast.ExceptHandler) and getattr(node.type, "id", "Exception") in ("Exception", "TypeError"):
+            faults.append("L19")
+        if isinstance(node, ast.Raise) and not isinstance(node.exc, ast.Call):
             faults.append("L19")
         if isinstance(node, ast.arg) and node.annotation or isinstance(node, ast.FunctionDef) and node.returns:
             faults.append("L21")
@@ -264,10 +284,111 @@ def top_faults(tree):
     return faults
 
 
+def is_plain(node, functions, within=False):
+    """L3 and L15: whether a value is a plain one; a list or dict holds no list or dict."""
+    if isinstance(node, ast.UnaryOp) and isinstance(node.op, ast.USub):
+        node = node.operand
+    if isinstance(node, ast.Constant):
+        return True
+    if isinstance(node, ast.Name):
+        return node.id in functions
+    if isinstance(node, (ast.List, ast.Dict)) and within:
+        return False
+    parts = getattr(node, "elts", None) if isinstance(node, (ast.List, ast.Tuple)) else None
+    if isinstance(node, ast.Dict):
+        parts = node.keys + node.values
+    return parts is not None and all(is_plain(part, functions, True) for part in parts)
+
+
+def value_faults(tree):
+    """L3 and L15: the values of a file's top are plain, and only read."""
+    faults = []
+    functions = []
+    kept = set()
+    for node in tree.body:
+        if isinstance(node, ast.FunctionDef):
+            functions.append(node.name)
+        if isinstance(node, ast.Assign):
+            if not is_plain(node.value, functions):
+                faults.append("L3")
+            if isinstance(node.value, (ast.List, ast.Dict)):
+                kept.update(target.id for target in node.targets if isinstance(target, ast.Name))
+    around = {child: node for node in ast.walk(tree) for child in ast.iter_child_nodes(node)}
+    for node in ast.walk(tree):
+        if isinstance(node, ast.Name) and isinstance(node.ctx, ast.Load) and node.id in kept:
+            if not only_read(node, around[node], around):
+                faults.append("L15")
+    return faults
+
+
+def only_read(node, use, around):
+    """Whether a list or dict of a file's top is only read where it stands."""
+    if isinstance(use, ast.Subscript):
+        return isinstance(use.ctx, ast.Load) and use.value is node
+    if isinstance(use, ast.Attribute):
+        return use.attr in READING and called(around[use]) == use.attr
+    if isinstance(use, ast.Call):
+        return called(use) in OWN_NAMES
+    return isinstance(use, (ast.Compare, ast.For, ast.comprehension))
+
+
+def values_in(tree):
+    """The names under which values are given to objects."""
+    told = [node for node in ast.walk(tree) if isinstance(node, ast.Attribute)]
+    return {node.attr for node in told if isinstance(node.ctx, ast.Store)}
+
+
+def class_faults(tree):
+    """L5, L18, L26 and L28: the classes, their methods and their values."""
+    faults = []
+    classes = [node for node in ast.walk(tree) if isinstance(node, ast.ClassDef)]
+    for node in classes:
+        methods = [one.name for one in node.body if isinstance(one, ast.FunctionDef)]
+        values = values_in(node)
+        words = [one for one in node.body if isinstance(one, ast.Expr) and isinstance(one.value, ast.Constant)]
+        plain = [one for one in node.body if isinstance(one, (ast.FunctionDef, ast.Pass)) or one in words]
+        if len(plain) < len(node.body) or node.decorator_list or node.keywords or len(node.bases) > 1:
+            faults.append("L5")
+        if any(name.startswith("__") and name not in CLASS_METHODS for name in methods):
+            faults.append("L5")
+        if node not in tree.body:
+            faults.append("L15")
+        bases = [base.id for base in node.bases if isinstance(base, ast.Name)]
+        if any(base in PYTHON_OWN and base not in ERROR_BASES for base in bases):
+            faults.append("L18")
+        if len(set(methods)) < len(methods) or values & set(methods):
+            faults.append("L18")
+        if set(methods) & (OF_PYTHON - FREE_METHODS) or values & (OF_PYTHON - FREE_VALUES | BARRED_VALUES):
+            faults.append("L26")
+        for one in node.body:
+            if isinstance(one, ast.FunctionDef) and one.name == "__init__":
+                if any(isinstance(inner, ast.Return) and inner.value for inner in ast.walk(one)):
+                    faults.append("L28")
+    return faults + class_use_faults(tree, [node.name for node in classes])
+
+
+def class_use_faults(tree, classes):
+    """L18: a class is called, is a base, or stands by isinstance, except or raise; no value is given to it."""
+    faults = []
+    around = {child: node for node in ast.walk(tree) for child in ast.iter_child_nodes(node)}
+    drawn = [alias.name for node in tree.body if isinstance(node, ast.ImportFrom) for alias in node.names]
+    classes = classes + [name for name in drawn if name[0].isupper() and not name.isupper()]
+    for node in ast.walk(tree):
+        if isinstance(node, ast.Name) and node.id in classes:
+            use = around[node]
+            if isinstance(use, ast.Tuple):
+                use = around[use]
+            by_name = isinstance(use, (ast.ClassDef, ast.ExceptHandler, ast.Raise))
+            asked = isinstance(use, ast.Call) and (use.func is node or called(use) == "isinstance")
+            if not by_name and not asked and not (isinstance(use, ast.Attribute) and use.attr == "__init__"):
+                faults.append("L18")
+    return faults
+
+
 def faults_of(source, name="some"):
     tree = ast.parse(source)
     told = sign_faults(source) + function_faults(tree) + import_faults(tree, name) + form_faults(tree)
-    told += name_faults(tree, name) + use_faults(tree) + loop_faults(tree)
+    told += name_faults(tree, name) + use_faults(tree) + loop_faults(tree) + value_faults(tree) + class_faults(tree)
     return sorted(set(told + top_faults(tree)))
 
 
@@ -303,7 +424,8 @@ class Package(unittest.TestCase):
         self.trees = {name: ast.parse(source) for name, source in self.sources.items()}
 
     def test_the_files_of_the_document_are_there(self):
-        for name in ("__init__", "errors", "fleets", "plans", "dealing", "wants", "flows", "evening", "chains"):
+        for name in ("__init__", "errors", "fleets", "plans", "dealing", "wants", "flows", "evening", "chains", "peaks",
+                     "prices", "texts", "desk"):
             self.assertIn(name, self.sources)
 
     def test_nothing_else_lies_in_the_folder(self):
@@ -337,6 +459,12 @@ class Package(unittest.TestCase):
             bound = [node.id for node in words if isinstance(node.ctx, ast.Store)]
             bound += [node.arg for node in ast.walk(tree) if isinstance(node, ast.arg)]
             self.assertEqual(sorted(set(drawn) & set(bound)), [], name)
+
+    def test_no_name_is_a_method_and_a_value(self):
+        classes = [node for tree in self.trees.values() for node in tree.body if isinstance(node, ast.ClassDef)]
+        methods = {one.name for node in classes for one in node.body if isinstance(one, ast.FunctionDef)}
+        values = set().union(*[values_in(tree) for tree in self.trees.values()])
+        self.assertEqual(sorted(methods & values), [])
 
     def test_the_top_binds_no_name_of_a_file(self):
         self.assertEqual(top_names(self.trees["__init__"]), [])
@@ -407,10 +535,37 @@ class TheTestItself(unittest.TestCase):
         self.assert_fault("L22", "def f(x):\n    y = len\n    return y(x)\n")
         self.assert_fault("L13", "def f(x):\n    y = {1, 2, 3}\n    return x in y\n")
         self.assert_fault("L19", "def f(x):\n    try:\n        f(x)\n    except Exception:\n        pass\n")
+        self.assert_fault("L19", "def f(x):\n    raise x\n")
         self.assert_fault("L21", "def f(x: int):\n    return x\n")
         self.assert_fault("L25", "def f(x):\n    y = x.append\n    return y\n")
         self.assert_fault("L27", "def f(x):\n    return 2 ** x\n")
         self.assert_fault("L27", "ONE = '1%'\n")
+
+    def test_values_of_the_top(self):
+        for row in ("ONE = 10 ** 15", "ONE = len('a')", "ONE = 1 + 1", "ONE = [two]", "ONE = {1: [2]}", "ONE = [[1]]"):
+            self.assert_fault("L3", row + "\n")
+        for row in ("ONE = -1", "ONE = 'a'", "ONE = {'a': (1, 2), 'b': ()}", "ONE = [1, (2, 'c')]", "ONE = None"):
+            self.assertEqual(faults_of(row + "\n"), [], row)
+        for body in ("ONE.append(x)", "ONE[0] = x", "return ONE", "f(ONE)", "x.append(ONE)", "return (x, ONE)"):
+            self.assert_fault("L15", f"ONE = [1]\n\n\ndef f(x):\n    {body}\n")
+        for body in ("return ONE[x]", "return x in ONE", "return list(ONE)", "return [y for y in ONE]",
+                     "return len(ONE)"):
+            self.assertEqual(faults_of(f"ONE = [1]\n\n\ndef f(x):\n    {body}\n"), [], body)
+
+    def test_classes(self):
+        self.assertEqual(faults_of("class A:\n    def __init__(self, x):\n        self.x = x\n"), [])
+        for body in ("x = 1", "def __add__(self, x):\n        return x", "def __iter__(self):\n        return 1"):
+            self.assert_fault("L5", f"class A:\n    {body}\n")
+        self.assert_fault("L5", "class A(B, C):\n    pass\n")
+        self.assert_fault("L15", "def f():\n    class A:\n        pass\n")
+        self.assert_fault("L17", "def f(x):\n    return getattr(x, 'y')\n")
+        self.assert_fault("L18", "class A:\n    def f(self):\n        self.f = 1\n")
+        self.assert_fault("L18", "class A(AttributeError):\n    pass\n")
+        self.assert_fault("L18", "class A:\n    pass\n\n\ndef f(x):\n    return [A, x]\n")
+        self.assert_fault("L18", "class A:\n    pass\n\n\ndef f(x):\n    A.x = x\n")
+        self.assert_fault("L26", "class A:\n    def sort(self):\n        return 1\n")
+        self.assert_fault("L26", "class A:\n    def __init__(self):\n        self.items = 1\n")
+        self.assert_fault("L28", "class A:\n    def __init__(self):\n        return None\n")
 
     def test_uses_as_they_should_be(self):
         for body in ("return list(zip(x, x))", "return sorted(set(x))", "return len(set(x) | set(x))",

@@ -1,13 +1,14 @@
-"""The refusals of stages 5 and 6: a fleet that is none, and then a plan that is none of the fleet."""
+"""The refusals of stages 5 to 7: a fleet that is none, and then a plan that is none of the fleet."""
 
 import unittest
 
 from evenquay.chains import chain, moved
-from evenquay.errors import NoFleet, NoName, NoPlan, NoRow, NoShip, NoText, QuayError
+from evenquay.errors import NoFleet, NoPlan
 from evenquay.evening import even, reason
+from evenquay.peaks import fitting, peak, too_much
+from evenquay.prices import cost
+from tests.refused import RefusalCase
 from tests.samples import ODDITIES, one_changed
-
-REFUSALS = (NoFleet, NoPlan, NoText, NoRow, NoName, NoShip)
 
 FLEET = [(0, 4, 5, 2), (2, 6, 3, 1)]
 PLAN = [[3, 2, 0], [0, 1, 2]]
@@ -32,32 +33,35 @@ WRONG_PLANS = ODDITIES + (
 ) + tuple(one_changed(PLAN, number, row) for number in range(2) for row in ODDITIES)
 
 
+def asked_with_fleet(fleet):
+    """Each function that takes a fleet and no plan, ready to be called."""
+    return (
+        lambda: even(fleet), lambda: peak(fleet), lambda: fitting(fleet, 0), lambda: fitting(fleet, 10 ** 40),
+        lambda: too_much(fleet, 0), lambda: too_much(fleet, 10 ** 40),
+    )
+
+
 def asked_with_plan(fleet, plan):
     """Each function that takes a plan, ready to be called."""
     return (
         lambda: reason(fleet, plan, 0), lambda: reason(fleet, plan, 10 ** 40), lambda: chain(fleet, plan),
-        lambda: moved(fleet, plan, CHAIN), lambda: moved(fleet, plan, []),
+        lambda: cost(fleet, plan, [1]), lambda: cost(fleet, plan, [-10 ** 40, 0, 10 ** 40]),
+        lambda: moved(fleet, plan, []), lambda: moved(fleet, plan, CHAIN),
     )
 
 
-class Refusals(unittest.TestCase):
-    def assert_refused(self, refusal, asked, *told):
-        for taken in (refusal, QuayError, ValueError):
-            try:
-                asked()
-            except taken as error:
-                self.assertEqual([one for one in REFUSALS if isinstance(error, one)], [refusal], told)
-            else:
-                self.fail(f"not refused: {told}")
-
+class Refusals(RefusalCase):
     def test_nothing_is_refused_that_is_as_told(self):
-        even(FLEET)
-        for asked in asked_with_plan(FLEET, PLAN) + asked_with_plan([], [])[:3]:
+        for asked in asked_with_fleet(FLEET) + asked_with_fleet([]):
+            asked()
+        # The chain is none of a fleet without ships.
+        for asked in asked_with_plan(FLEET, PLAN) + asked_with_plan([], [])[:-1]:
             asked()
 
-    def test_even_of_no_fleet(self):
+    def test_no_fleet(self):
         for fleet in WRONG_FLEETS:
-            self.assert_refused(NoFleet, lambda: even(fleet), fleet)
+            for asked in asked_with_fleet(fleet):
+                self.assert_refused(NoFleet, asked, fleet)
 
     def test_no_fleet_with_a_plan(self):
         for fleet in WRONG_FLEETS:
